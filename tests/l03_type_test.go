@@ -79,6 +79,10 @@ func rawText(t impl.Ty) string {
 	return "(" + strings.Join(parts, " ") + ")"
 }
 
+func rawBoxed(t impl.Ty) bool {
+	return t.Kind != impl.TyUnit && t.Kind != impl.TyInt && t.Kind != impl.TyVar
+}
+
 func rawVars(t impl.Ty) []int {
 	var seen [impl.MaxVar]bool
 	markVars(t, &seen)
@@ -1213,7 +1217,7 @@ func TestTypesAskedByManyAtOnce(t *testing.T) {
 		all.Go(func() {
 			for _, ty := range types {
 				got, next := impl.TyRead(impl.TyBytes(ty), 0)
-				if next < 0 || string(impl.TySay(got)) != rawText(ty) {
+				if next < 0 || string(impl.TySay(got)) != rawText(ty) || impl.TyBoxed(got) != rawBoxed(ty) {
 					wrong[worker]++
 				}
 			}
