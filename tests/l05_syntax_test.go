@@ -217,7 +217,7 @@ func rawExprOk(e impl.Expr) bool {
 	return rawAllOk(e) && rawNodes(e) <= impl.MaxNodes && rawDeep(e) <= impl.MaxDeep
 }
 
-// rawTwofold: a constructor without Kids that is applied has the text of one with a Kid.
+// rawTwofold: a constructor without Kids that is applied has the text of one with a Kid, as which it is parsed.
 func rawTwofold(e impl.Expr) bool {
 	return e.Kind == impl.ExApp && e.Kids[0].Kind == impl.ExCon && len(e.Kids[0].Kids) == 0 || slices.ContainsFunc(rawParts(e), rawTwofold)
 }
@@ -255,7 +255,7 @@ func rawOver(t impl.Ty, datas []impl.Data) bool {
 }
 
 func rawSourceOk(s impl.Source) bool {
-	return rawDatasOk(s.Datas) && rawExprOk(s.Body) && !rawTwofold(s.Body) && len(rawPrint(s)) <= impl.MaxProgram
+	return rawDatasOk(s.Datas) && rawExprOk(s.Body) && len(rawPrint(s)) <= impl.MaxProgram
 }
 
 var rawWords = map[int]string{
@@ -720,11 +720,42 @@ func sampleMatches() []samplePart {
 // wantSource looks for s with just this text, which comes back.
 func wantSource(t *testing.T, s impl.Source, text string) {
 	t.Helper()
+	wantPrinted(t, s, text)
+	wantParsed(t, text, s)
+}
+
+func wantPrinted(t *testing.T, s impl.Source, text string) {
+	t.Helper()
 	got, ok := impl.Print(s)
 	if !ok || !impl.SourceOk(s) || string(got) != text {
 		t.Errorf("%s: printed as %s, %v", text, got, ok)
 	}
-	wantParsed(t, text, s)
+}
+
+// plainer is e with each constructor without Kids that is applied as what its text is parsed as: one with a Kid.
+func plainer(e impl.Expr) impl.Expr {
+	twofold := e.Kind == impl.ExApp && e.Kids[0].Kind == impl.ExCon && len(e.Kids[0].Kids) == 0
+	e.Kids, e.Arms = slices.Clone(e.Kids), slices.Clone(e.Arms)
+	for i := range e.Kids {
+		e.Kids[i] = plainer(e.Kids[i])
+	}
+	for i := range e.Arms {
+		e.Arms[i].Body = plainer(e.Arms[i].Body)
+	}
+	if twofold {
+		return exNamed(impl.ExCon, string(e.Kids[0].Name), e.Kids[1])
+	}
+	return e
+}
+
+// wantTwofold looks for s with just this text, which is parsed as a plainer source of the same text.
+func wantTwofold(t *testing.T, s impl.Source, text string) {
+	t.Helper()
+	wantPrinted(t, s, text)
+	if impl.Nodes(s.Body) != rawNodes(s.Body) {
+		t.Errorf("%s: %d parts", text, impl.Nodes(s.Body))
+	}
+	wantSource(t, impl.Source{Datas: s.Datas, Body: plainer(s.Body)}, text)
 }
 
 func wantParsed(t *testing.T, text string, s impl.Source) {
@@ -775,7 +806,9 @@ func TestEveryKindWithinEveryOther(t *testing.T) {
 				e := outer.e
 				e.Kids = slices.Clone(e.Kids)
 				e.Kids[i] = inner.e
-				if !rawTwofold(e) {
+				if rawTwofold(e) {
+					wantTwofold(t, bodyOnly(e), rawPrint(bodyOnly(e)))
+				} else {
 					wantSource(t, bodyOnly(e), rawPrint(bodyOnly(e)))
 				}
 			}
@@ -1099,22 +1132,48 @@ func TestTreesWithoutAnEnd(t *testing.T) {
 	}
 }
 
-// TestAppliedConstructor: (Nil 1) is the text of a constructor with a Kid, so a constructor without Kids that is applied
-// would not come back from its text: no such source is SourceOk.
+// TestAppliedConstructor: a constructor without Kids that is applied is as the table says, wherever it stands.
+// Its text is that of a constructor with a Kid, as which it is parsed.
 func TestAppliedConstructor(t *testing.T) {
-	applied := exOf(impl.ExApp, exNamed(impl.ExCon, "Nil"), exInt(1))
-	for i, e := range []impl.Expr{applied, exOf(impl.ExRef, applied), exOf(impl.ExApp, applied, exInt(1)), exMatch(exInt(1), armOf("A", "", exInt(1)), armOf("", "", applied))} {
-		text, ok := impl.Print(bodyOnly(e))
-		if impl.SourceOk(bodyOnly(e)) || ok || len(text) > 0 {
-			t.Errorf("%d: taken", i)
+	x, one := exVar("x"), exInt(1)
+	applied := exOf(impl.ExApp, exNamed(impl.ExCon, "Nil"), x)
+	for _, c := range []struct {
+		e     impl.Expr
+		parts int
+		text  string
+	}{
+		{applied, 3, "(Nil x)\n"},
+		{exOf(impl.ExRef, applied), 4, "(ref (Nil x))\n"},
+		{exNamed(impl.ExFn, "x", applied), 4, "(fn x (Nil x))\n"},
+		{exOf(impl.ExApp, applied, one), 5, "((Nil x) 1)\n"},
+		{exOf(impl.ExApp, exNamed(impl.ExCon, "Nil"), applied), 5, "(Nil (Nil x))\n"},
+		{exNamed(impl.ExCon, "Some", one, applied), 5, "(Some 1 (Nil x))\n"},
+		{exMatch(x, armOf("A", "", applied)), 5, "(match x (A (Nil x)))\n"},
+		{exMatch(applied, armOf("A", "a", one), armOf("", "", applied)), 8, "(match (Nil x) (A a 1) (_ (Nil x)))\n"},
+	} {
+		if impl.Nodes(c.e) != c.parts {
+			t.Errorf("%s: %d parts", c.text, impl.Nodes(c.e))
 		}
-		if impl.Nodes(e) != rawNodes(e) {
-			t.Errorf("%d: %d parts", i, impl.Nodes(e))
-		}
+		wantTwofold(t, bodyOnly(c.e), c.text)
 	}
-	wantParsed(t, "(Nil 1)", bodyOnly(exNamed(impl.ExCon, "Nil", exInt(1))))
-	wantSource(t, bodyOnly(exOf(impl.ExApp, exInt(1), exNamed(impl.ExCon, "Nil"))), "(1 Nil)\n")
-	wantSource(t, bodyOnly(exOf(impl.ExApp, exNamed(impl.ExCon, "Nil", exInt(2)), exInt(1))), "((Nil 2) 1)\n")
+	wantParsed(t, "(Nil 1)", bodyOnly(exNamed(impl.ExCon, "Nil", one)))
+	wantSource(t, bodyOnly(exOf(impl.ExApp, one, exNamed(impl.ExCon, "Nil"))), "(1 Nil)\n")
+	wantSource(t, bodyOnly(exOf(impl.ExApp, exNamed(impl.ExCon, "Nil", exInt(2)), one)), "((Nil 2) 1)\n")
+}
+
+// TestAppliedConstructorWithinTheLimits: what is wrong with an application is wrong with this one, too.
+func TestAppliedConstructorWithinTheLimits(t *testing.T) {
+	nil0 := exNamed(impl.ExCon, "Nil")
+	deepest := deep(impl.MaxDeep, exInt(1), func(e impl.Expr) impl.Expr { return exOf(impl.ExApp, nil0, e) })
+	wantTwofold(t, bodyOnly(deepest), rawPrint(bodyOnly(deepest)))
+	largest := exOf(impl.ExApp, nil0, bulk(impl.MaxNodes-2))
+	wantTwofold(t, bodyOnly(largest), rawPrint(bodyOnly(largest)))
+	wantNoExpr(t, "too deep", exOf(impl.ExApp, nil0, deepest))
+	wantNoExpr(t, "too many parts", exOf(impl.ExApp, nil0, bulk(impl.MaxNodes-1)))
+	wantNoExpr(t, "a Kid too few", exOf(impl.ExApp, nil0))
+	wantNoExpr(t, "a Kid too many", exOf(impl.ExApp, nil0, exInt(1), exInt(1)))
+	wantNoExpr(t, "no great word", exOf(impl.ExApp, exNamed(impl.ExCon, "nil"), exInt(1)))
+	wantNoExpr(t, "a name of its own", exNamed(impl.ExApp, "x", nil0, exInt(1)))
 }
 
 func TestDatasHaveTheirText(t *testing.T) {
