@@ -687,7 +687,24 @@ func TestManySourcesThatAreMixedAgainstGuesses(t *testing.T) {
 	}
 }
 
-// TestManyTermsThatAreTurned: several turns at once, most often ones that go together.
+// turnedTerm is a copy of term with several turns, most often ones that go together.
+func (w *walk) turnedTerm(term impl.Term) impl.Term {
+	turned := copyTerm(term)
+	if w.below(2) == 0 {
+		renumber(&turned, w.below(3), w.below(5))
+	}
+	if w.below(2) == 0 {
+		overTypes(&turned, putFor(w.below(3), pick(w, []impl.Ty{tyInt, tyUnit, tyVar(0), inRef(tyInt)})))
+	}
+	for range w.below(3) {
+		at := w.below(10)
+		if p := partAt(&turned, &at); p != nil {
+			pick(w, slices.Concat(turnsOf(*p), treeTurns(*p))).do(p)
+		}
+	}
+	return turned
+}
+
 func TestManyTermsThatAreTurned(t *testing.T) {
 	w := &walk{state: 63}
 	taken, refused := 0, 0
@@ -697,19 +714,7 @@ func TestManyTermsThatAreTurned(t *testing.T) {
 		if code != impl.TypeWell {
 			continue
 		}
-		turned := copyTerm(term)
-		if w.below(2) == 0 {
-			renumber(&turned, w.below(3), w.below(5))
-		}
-		if w.below(2) == 0 {
-			overTypes(&turned, putFor(w.below(3), pick(w, []impl.Ty{tyInt, tyUnit, tyVar(0), inRef(tyInt)})))
-		}
-		for range w.below(3) {
-			at := w.below(10)
-			if p := partAt(&turned, &at); p != nil {
-				pick(w, slices.Concat(turnsOf(*p), treeTurns(*p))).do(p)
-			}
-		}
+		turned := w.turnedTerm(term)
 		ok := rawTermOk(s.Datas, turned)
 		if impl.TermOk(s.Datas, turned) != ok {
 			t.Fatalf("%s: TermOk is %v: %v", rawPrint(s), !ok, turned)
