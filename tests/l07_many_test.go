@@ -37,6 +37,15 @@ func (r *rawLowering) next() int {
 	return r.numbers - 1
 }
 
+// onTheWay answers ty with what is put for its variables: the type that must be one, each data in it with its Args.
+func onTheWay(ty impl.Ty, put map[int]impl.Ty) impl.Ty {
+	got := closed(ty, put)
+	if !rawOk(got) {
+		panic(tooLarge{})
+	}
+	return got
+}
+
 // closed answers ty with what is put for its variables, however large.
 func closed(ty impl.Ty, put map[int]impl.Ty) impl.Ty {
 	if ty.Kind == impl.TyVar {
@@ -55,9 +64,6 @@ func (r *rawLowering) low(ty impl.Ty) impl.Ty {
 	for _, arg := range ty.Args {
 		got.Args = append(got.Args, r.low(arg))
 	}
-	if !rawOk(got) {
-		panic(tooLarge{})
-	}
 	if ty.Kind != impl.TyData {
 		return got
 	}
@@ -70,9 +76,13 @@ func (r *rawLowering) low(ty impl.Ty) impl.Ty {
 		}
 		r.places[key] = place
 		r.layouts = append(r.layouts, impl.Layout{Cons: make([][]impl.Ty, len(r.datas[ty.N].Cons))})
+		put := map[int]impl.Ty{}
+		for i, arg := range ty.Args {
+			put[i] = arg
+		}
 		for i, c := range r.datas[ty.N].Cons {
 			for _, field := range c.Fields {
-				r.layouts[place].Cons[i] = append(r.layouts[place].Cons[i], r.low(rawSubst(field, ty.Args)))
+				r.layouts[place].Cons[i] = append(r.layouts[place].Cons[i], r.low(onTheWay(field, put)))
 			}
 		}
 	}
@@ -83,7 +93,7 @@ func (r *rawLowering) part(t impl.Term, names []rawLowName, put map[int]impl.Ty)
 	with := func(name []byte, number int) []rawLowName {
 		return append(slices.Clone(names), rawLowName{string(name), number, nil})
 	}
-	own := r.low(closed(t.Ty, put))
+	own := r.low(onTheWay(t.Ty, put))
 	if len(t.Quant) > 0 {
 		return r.copies(t, names, put)
 	}
@@ -96,12 +106,12 @@ func (r *rawLowering) part(t impl.Term, names []rawLowName, put map[int]impl.Ty)
 	case impl.ExInt, impl.ExOp, impl.ExCall:
 		e.N = t.N
 	case impl.ExCon, impl.ExMatch:
-		e.N = r.low(closed(tyData(t.N, t.Inst...), put)).N
+		e.N = r.low(onTheWay(tyData(t.N, t.Inst...), put)).N
 	case impl.ExFn, impl.ExLet, impl.ExTry:
 		e.N = r.next()
 		scopes[len(scopes)-1] = with(t.Name, e.N)
 	case impl.ExRec:
-		e.N, e.Fun, e.M = r.next(), r.low(closed(t.Inst[0], put)), r.next()
+		e.N, e.Fun, e.M = r.next(), r.low(onTheWay(t.Inst[0], put)), r.next()
 		scopes[1] = with(t.Name, e.N)
 		scopes[0] = append(with(t.Name, e.N), rawLowName{string(t.Arg), e.M, nil})
 	}
@@ -138,8 +148,7 @@ func (r *rawLowering) variable(t impl.Term, names []rawLowName, put map[int]impl
 	}
 	key, inst := "", []impl.Ty{}
 	for _, ty := range t.Inst {
-		got := closed(ty, put)
-		r.low(got)
+		got := onTheWay(ty, put)
 		key += rawText(got) + ";"
 		inst = append(inst, got)
 	}
@@ -164,10 +173,10 @@ func (r *rawLowering) copies(t impl.Term, names []rawLowName, put map[int]impl.T
 			more[v] = inst[i]
 		}
 		r.count()
-		e := impl.Low{Kind: t.Kind, N: inst[len(t.Quant)].N, Ty: r.low(closed(t.Ty, put))}
+		e := impl.Low{Kind: t.Kind, N: inst[len(t.Quant)].N, Ty: r.low(onTheWay(t.Ty, put))}
 		inside := slices.Clone(names)
 		if t.Kind == impl.ExRec {
-			e.Fun, e.M = r.low(closed(t.Inst[0], more)), r.next()
+			e.Fun, e.M = r.low(onTheWay(t.Inst[0], more)), r.next()
 			inside = append(inside, rawLowName{string(t.Name), e.N, nil}, rawLowName{string(t.Arg), e.M, nil})
 		}
 		e.Kids = []impl.Low{r.part(t.Kids[0], inside, more), {}}
@@ -208,7 +217,7 @@ func wantAsRaw(t *testing.T, datas []impl.Data, term impl.Term) int {
 	want, wantCode := rawMono(datas, term)
 	got, code := impl.Mono(datas, term)
 	if code != wantCode || !sameWhole(got, want) {
-		t.Fatalf("%v: %d %s %s, not %d %s %s", term, code, sayLayouts(got.Layouts), sayLow(got.Body), wantCode, sayLayouts(want.Layouts), sayLow(want.Body))
+		t.Fatalf("%.2000v: %d %.1000s %.2000s, not %d %.1000s %.2000s", term, code, sayLayouts(got.Layouts), sayLow(got.Body), wantCode, sayLayouts(want.Layouts), sayLow(want.Body))
 	}
 	if code == impl.MonoWell {
 		wantPromised(t, datas, term, got)

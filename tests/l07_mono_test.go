@@ -512,7 +512,7 @@ func TestTypesOfLetsWithinEachOther(t *testing.T) {
 	}
 }
 
-// TestQuantThatIsNotInTheType: a term need not be the most general one. Each Inst is one of its own, and its types are asked for where it is.
+// TestQuantThatIsNotInTheType: a term need not be the most general one. Each Inst is one of its own, and asks for no layout.
 func TestQuantThatIsNotInTheType(t *testing.T) {
 	datas, term := termOf(t, "(let id (fn x 1) (add (id unit) (id unit)))")
 	ask := func(term *impl.Term, kid int) *impl.Term { return &term.Kids[1].Kids[kid].Kids[0] }
@@ -525,13 +525,13 @@ func TestQuantThatIsNotInTheType(t *testing.T) {
 	}
 	for _, c := range []struct {
 		first, second impl.Ty
-		layouts       string
 		lets          int
 	}{
-		{tyInt, tyInt, "", 1}, {tyInt, tyText, "", 2}, {tyData(2), tyData(2), "{- | -}", 1}, {tyData(0, tyInt), tyData(0, tyText), "{- | int (data 0)} {- | text (data 1)}", 2},
+		{tyInt, tyInt, 1}, {tyInt, tyText, 2}, {tyData(2), tyData(2), 1}, {tyData(0, tyInt), tyData(0, tyText), 2}, {tyData(0, tyInt), tyData(0, tyInt), 1},
+		{tyData(0, tyData(0, tyData(2))), tyData(1, tyData(2), tyInt), 2}, {tyData(1, tyInt, tyUnit), tyData(1, tyUnit, tyInt), 2},
 	} {
 		w := wantMonoWell(t, datas, more(c.first, c.second))
-		if sayLayouts(w.Layouts) != c.layouts || len(bindersOf(w.Body)) != 2*c.lets {
+		if len(w.Layouts) > 0 || len(bindersOf(w.Body)) != 2*c.lets {
 			t.Errorf("%s and %s: %s %s", rawText(c.first), rawText(c.second), sayLayouts(w.Layouts), sayLow(w.Body))
 		}
 	}
@@ -672,7 +672,8 @@ func TestHowManyLayouts(t *testing.T) {
 
 // TestTypesOnTheWay: a type of a part, of a Field, of a function and of a data with its Args, within its limits and beyond.
 func TestTypesOnTheWay(t *testing.T) {
-	const datas = "(data opt 1 (None) (Some '0))\n(data wide 1 (Small '0) (Wide (pair '0 '0)))\n(data high 2 (Low '1) (High (ref (ref '1))))\n(data two 2 (Two '0) (Other '1))\n"
+	const datas = "(data opt 1 (None) (Some '0))\n(data wide 1 (Small '0) (Wide (pair '0 '0)))\n(data high 2 (Low '1) (High (ref (ref '1))))\n(data two 2 (Two '0) (Other '1))\n" +
+		"(data cell 1 (Cell '0))\n(data join 2 (Join '0 '1))\n"
 	passed := 0
 	for _, c := range []struct {
 		text string
@@ -701,40 +702,153 @@ func TestTypesOnTheWay(t *testing.T) {
 		{"(let f (fn x (let y (Small x) 1)) (f %s))", 29, sizedText},
 		{"(let f (fn x (let y (ref (Low x)) 1)) (f %s))", impl.MaxDepth - 2, refText},
 		{"(Some (Small %s))", 29, sizedText},
-		// A data with its Args, which are low types then.
+		// A data with its Args, and what is made of it, which counts them all.
 		{"(let f (fn x (let y (Some (ref x)) 1)) (f %s))", impl.MaxDepth - 2, refText},
 		{"(let f (fn x (let y (Some (pair 1 x)) 1)) (f %s))", 57, sizedText},
 		{"(let f (fn x (let y (if 1 (Two x) (Other x)) 1)) (f %s))", 29, sizedText},
 		{"(let f (fn x (let y (if 1 (Two x) (Other (ref x))) 1)) (f %s))", 29, sizedText},
+		{"(let f (fn x (let y (Some (Some (Some x))) 1)) (f %s))", 57, sizedText},
+		{"(let f (fn x (let y (Some (Some (Some x))) 1)) (f %s))", impl.MaxDepth - 3, refText},
+		{"(let f (fn x (let y (ref (ref (ref (Some x)))) 1)) (f %s))", 56, sizedText},
+		{"(let f (fn x (let y (ref (ref (ref (Some x)))) 1)) (f %s))", impl.MaxDepth - 4, refText},
+		{"(let f (fn x (let y (pair (Some x) (pair (Some x) (Some x))) 1)) (f %s))", 18, sizedText},
+		{"(let f (fn x (let y (pair (Some x) (pair (Some x) (Some x))) 1)) (f %s))", impl.MaxDepth - 3, refText},
+		{"(let f (fn x (match (Some (Some (ref x))) (Some z 1) (None 2))) (f %s))", 57, sizedText},
 	} {
-		for more := max(1, c.most-2); more <= c.most; more++ {
-			s := sourceOf(t, datas+fmt.Sprintf(c.text, c.part(more)))
-			wantMonoWell(t, s.Datas, wantWell(t, s))
-		}
-		// Of what has no type Mono is not asked.
-		large := datas + fmt.Sprintf(c.text, c.part(c.most+1))
-		if _, code := impl.Infer(sourceOf(t, large)); code == impl.TypeWell {
-			passed++
-			wantLarge(t, large)
+		for _, as := range []func(text string) string{asItIs, asDatas} {
+			for more := max(1, c.most-2); more <= c.most; more++ {
+				s := sourceOf(t, datas+fmt.Sprintf(c.text, as(c.part(more))))
+				wantMonoWell(t, s.Datas, wantWell(t, s))
+			}
+			// Of what has no type Mono is not asked.
+			large := datas + fmt.Sprintf(c.text, as(c.part(c.most+1)))
+			if _, code := impl.Infer(sourceOf(t, large)); code == impl.TypeWell {
+				passed++
+				wantLarge(t, large)
+			}
 		}
 	}
-	if passed != 19 {
+	if passed != 2*26 {
 		t.Error("the test's own texts:", passed)
-	}
-	// A layout is one type, however large its Args were: what is made of it may be as large again.
-	for _, text := range []string{
-		"(let f (fn x (let y (Some (Some (Some x))) 1)) (f %s))", "(let f (fn x (let y (ref (ref (ref (Some x)))) 1)) (f %s))", "(let f (fn x (let y (pair (Some x) (pair (Some x) (Some x))) 1)) (f %s))",
-	} {
-		for _, part := range []string{sizedText(58), refText(impl.MaxDepth - 1)} {
-			s := sourceOf(t, datas+fmt.Sprintf(text, part))
-			wantMonoWell(t, s.Datas, wantWell(t, s))
-		}
 	}
 	// What nobody asks for is not on the way.
 	for _, text := range []string{"(let f (fn x (let y (pair x x) 1)) (let g (fn z (f %s)) 5))", "(let v (Small %s) 5)"} {
 		s := sourceOf(t, datas+fmt.Sprintf(text, "(pair "+sizedText(31)+" (fn w w))"))
 		if w := wantMonoWell(t, s.Datas, wantWell(t, s)); w.Body.Kind != impl.ExInt {
 			t.Errorf("%s: %s", text, sayLow(w.Body))
+		}
+	}
+}
+
+func asItIs(text string) string {
+	return text
+}
+
+// asDatas answers a text whose type has, for each pair and cell, a data of as many Args.
+func asDatas(text string) string {
+	return strings.NewReplacer("(pair ", "(Join ", "(ref ", "(Cell ").Replace(text)
+}
+
+// TestDatasCountWithTheirArgs: a type on the way is that over the datas, whatever low type comes of it; each limit met, and passed by one.
+func TestDatasCountWithTheirArgs(t *testing.T) {
+	const put = "(data d 1 (C '0))\n(let f (fn x (fst (pair 1 (ref x)))) (f %s))"
+	const field = "(data d 1 (B (ref (ref (ref '0)))) (C '0))\n%s"
+	const joins = "(data cell 1 (Cell '0))\n(data join 2 (Join '0 '1))\n"
+	const wide = joins + "(data d 1 (B (pair int '0)) (C '0))\n(C %s)"
+	const twice = joins + "(data d 2 (A (pair '0 '1)) (C '0 '1))\n(C %s %s)"
+	nest := func(count int) string { return strings.Repeat("(C ", count) + "1" + strings.Repeat(")", count) }
+	joined := func(size int) string { return asDatas(sizedText(size)) }
+	for _, c := range []struct {
+		most, passed string
+		layouts      int
+	}{
+		{fmt.Sprintf(put, nest(7)), fmt.Sprintf(put, nest(8)), 7},
+		{fmt.Sprintf(field, nest(7)), fmt.Sprintf(field, nest(8)), 7},
+		// The pair of int and the ref of 57, of 58.
+		{joins + "(let f (fn x (fst (pair 1 (ref x)))) (f " + joined(57) + "))", joins + "(let f (fn x (fst (pair 1 (ref x)))) (f " + joined(58) + "))", 8},
+		// The pair of int and 58, of int and 59; the data with these Args is a type.
+		{fmt.Sprintf(wide, joined(58)), fmt.Sprintf(wide, joined(59)), 10},
+		// Two Args of 59 in all: the pair of both is as large as the data.
+		{fmt.Sprintf(twice, joined(29), joined(30)), "", 9},
+		// A Field of a Field: cells of d are a data of their own.
+		{"(data c 1 (E (pair int (pair int '0))) (F '0))\n(data d 1 (B (c (pair int '0))) (C '0))\n(C " + sizedText(54) + ")",
+			"(data c 1 (E (pair int (pair int '0))) (F '0))\n(data d 1 (B (c (pair int '0))) (C '0))\n(C " + sizedText(55) + ")", 2},
+		{"(data c 1 (E (ref (ref (ref '0)))) (F '0))\n(data d 1 (B (c (ref '0))) (C '0))\n(C " + refText(6) + ")",
+			"(data c 1 (E (ref (ref (ref '0)))) (F '0))\n(data d 1 (B (c (ref '0))) (C '0))\n(C " + refText(7) + ")", 2},
+	} {
+		s := sourceOf(t, c.most)
+		if w := wantMonoWell(t, s.Datas, wantWell(t, s)); len(w.Layouts) != c.layouts {
+			t.Errorf("%s: %d layouts", c.most, len(w.Layouts))
+		}
+		if c.passed != "" {
+			wantLarge(t, c.passed)
+		}
+	}
+	// An Inst with what was put is on the way, too, though no part has it as its type.
+	grown := func(depth int) ([]impl.Data, impl.Term) {
+		datas, term := termOf(t, "(let g (fn x (let f (fn u 1) (f unit))) (g "+refText(depth)+"))")
+		f := &term.Kids[0].Kids[0]
+		f.Quant = append(f.Quant, 9)
+		ask := &f.Kids[1].Kids[0]
+		ask.Inst = append(ask.Inst, tyOf(impl.TyRef, tyOf(impl.TyRef, tyVar(term.Quant[0]))))
+		return datas, term
+	}
+	datas, term := grown(impl.MaxDepth - 2)
+	wantMonoWell(t, datas, term)
+	datas, term = grown(impl.MaxDepth - 1)
+	wantNoMono(t, "an Inst too deep", impl.MonoLarge, datas, term)
+}
+
+// TestAnInstAsksForNoLayout: of an ExVar its own type alone is gone through; what is put for Quant is asked for by the parts that have it.
+func TestAnInstAsksForNoLayout(t *testing.T) {
+	datas := []impl.Data{dataOf("o", 0, impl.Con{Name: []byte("A")}), dataOf("p", 0, impl.Con{Name: []byte("B")}, impl.Con{Name: []byte("D")}),
+		dataOf("opt", 1, impl.Con{Name: []byte("None")}, impl.Con{Name: []byte("Some"), Fields: []impl.Ty{tyVar(0)}})}
+	f := func(ty impl.Ty, inst int) impl.Term {
+		return impl.Term{Kind: impl.ExVar, Name: []byte("f"), Ty: ty, Inst: []impl.Ty{tyData(inst)}}
+	}
+	let := func(first impl.Term, body impl.Term) impl.Term {
+		return impl.Term{Kind: impl.ExLet, Name: []byte("f"), Ty: body.Ty, Quant: []int{0}, Kids: []impl.Term{first, body}}
+	}
+	first := func(kid impl.Term) impl.Term {
+		pair := impl.Term{Kind: impl.ExPair, Ty: tyOf(impl.TyPair, tyInt, kid.Ty), Kids: []impl.Term{intTerm, kid}}
+		return impl.Term{Kind: impl.ExFst, Ty: tyInt, Kids: []impl.Term{pair}}
+	}
+	add := func(a impl.Term, b impl.Term) impl.Term {
+		return impl.Term{Kind: impl.ExOp, N: impl.OpAdd, Ty: tyInt, Kids: []impl.Term{a, b}}
+	}
+	b := impl.Term{Kind: impl.ExCon, N: 1, Ty: tyData(1)}
+	// A function of unit whose parts have the type (opt '0), which it does not have itself.
+	none := impl.Term{Kind: impl.ExCon, N: 2, Ty: tyData(2, tyVar(0)), Inst: []impl.Ty{tyVar(0)}}
+	unitToInt := tyOf(impl.TyFun, tyUnit, tyInt)
+	hidden := impl.Term{Kind: impl.ExFn, Name: []byte("u"), Ty: unitToInt, Kids: []impl.Term{first(none)}}
+	call := func(inst int) impl.Term {
+		return impl.Term{Kind: impl.ExApp, Ty: tyInt, Kids: []impl.Term{f(unitToInt, inst), {Kind: impl.ExUnit}}}
+	}
+	rec := func(body impl.Term) impl.Term {
+		return impl.Term{Kind: impl.ExRec, Name: []byte("f"), Arg: []byte("u"), Ty: body.Ty, Quant: []int{0}, Inst: []impl.Ty{unitToInt}, Kids: []impl.Term{first(none), body}}
+	}
+	const fun = "(fn %d (fst (pair 1:int (con %d.0):(data %[2]d)):(pair int (data %[2]d))):int):(fun unit int)"
+	for _, c := range []struct {
+		term          impl.Term
+		layouts, body string
+	}{
+		{let(intTerm, f(tyInt, 0)), "", "(let 0 1:int #0:int):int"},
+		{let(intTerm, impl.Term{Kind: impl.ExIf, Ty: tyInt, Kids: []impl.Term{f(tyInt, 0), first(b), intTerm}}), "{- | -}",
+			"(let 0 1:int (if #0:int (fst (pair 1:int (con 0.0):(data 0)):(pair int (data 0))):int 1:int):int):int"},
+		// Behind what the second Kid asks for: the Args first, then the data.
+		{let(hidden, add(call(0), first(b))), "{- | -} {-} {- | (data 1)}",
+			"(let 0 " + fmt.Sprintf(fun, 1, 2) + " (add (app #0:(fun unit int) unit:unit):int (fst (pair 1:int (con 0.0):(data 0)):(pair int (data 0))):int):int):int"},
+		// In the order of the first Kids; an Inst that was asked for already is one and the same.
+		{let(hidden, add(call(1), add(call(0), call(1)))), "{- | -} {- | (data 0)} {-} {- | (data 2)}",
+			"(let 0 " + fmt.Sprintf(fun, 2, 1) + " (let 1 " + fmt.Sprintf(fun, 3, 3) + " (add (app #0:(fun unit int) unit:unit):int (add (app #1:(fun unit int) unit:unit):int (app #0:(fun unit int) unit:unit):int):int):int):int):int"},
+		{rec(add(call(1), first(b))), "{- | -} {- | (data 0)}",
+			"(rec 0 1<(fun unit int)> (fst (pair 1:int (con 1.0):(data 1)):(pair int (data 1))):int (add (app #0:(fun unit int) unit:unit):int (fst (pair 1:int (con 0.0):(data 0)):(pair int (data 0))):int):int):int"},
+		{rec(add(call(0), call(0))), "{-} {- | (data 0)}",
+			"(rec 0 1<(fun unit int)> (fst (pair 1:int (con 1.0):(data 1)):(pair int (data 1))):int (add (app #0:(fun unit int) unit:unit):int (app #0:(fun unit int) unit:unit):int):int):int"},
+	} {
+		w := wantMonoWell(t, datas, c.term)
+		if sayLayouts(w.Layouts) != c.layouts || sayLow(w.Body) != c.body {
+			t.Errorf("%s: %s %s", sayTerm(c.term), sayLayouts(w.Layouts), sayLow(w.Body))
 		}
 	}
 }
