@@ -196,7 +196,7 @@ func wantPromised(t *testing.T, datas []impl.Data, term impl.Term, w impl.Whole)
 	if !impl.WholeOk(w) || !saysNoMore(w.Body) {
 		t.Errorf("%s: not WholeOk: %s %s", sayTerm(term), sayLayouts(w.Layouts), sayLow(w.Body))
 	}
-	if free := rawFreeOf(w.Body, nil); len(free) > 0 {
+	if free := append(rawFreeOf(w.Body, nil), impl.FreeOf(w.Body)...); len(free) > 0 {
 		t.Errorf("%s: %v are free: %s", sayTerm(term), free, sayLow(w.Body))
 	}
 	if s := (&saying{datas, w.Layouts, map[string]bool{}}); !s.same(term.Ty, w.Body.Ty) {
