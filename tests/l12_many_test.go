@@ -86,6 +86,11 @@ func rawCollect(p impl.Program, h impl.Heap, roots []impl.Root) (impl.Heap, []in
 			return impl.Heap{}, nil, false
 		}
 	}
+	return rawMoved(p, h, roots)
+}
+
+// rawMoved is a collection, however many roots there are.
+func rawMoved(p impl.Program, h impl.Heap, roots []impl.Root) (impl.Heap, []int, bool) {
 	finds, size, ok := rawFinds(p, h, roots)
 	if !ok || size > h.Half {
 		return impl.Heap{}, nil, false
