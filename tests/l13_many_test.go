@@ -29,13 +29,14 @@ type rawFrame struct {
 }
 
 type rawMachine struct {
-	p      impl.Program
-	states [][]impl.State
-	h      impl.Heap
-	scene  *rawScene
-	frames []*rawFrame
-	steps  int
-	moves  int
+	p       impl.Program
+	states  [][]impl.State
+	h       impl.Heap
+	endless bool // the heap has no end, and no Log
+	scene   *rawScene
+	frames  []*rawFrame
+	steps   int
+	moves   int
 }
 
 // A rawHalt is how a run of the raw machine ended.
@@ -46,7 +47,7 @@ type rawHalt struct {
 }
 
 // rawRun tells what Run must, by another way.
-func rawRun(p impl.Program, half int, grants []int, w impl.World, fuel int, force []int) (got impl.Outcome) {
+func rawRun(p impl.Program, half int, grants []int, w impl.World, fuel int, force []int) impl.Outcome {
 	if half < 16 || half > 4096 || !rawWorldOk(w) || len(w.Trace) != 0 || fuel < 0 || fuel > 60000 || len(force) > 1000 || !impl.Check(p, grants) {
 		return impl.Outcome{}
 	}
@@ -55,7 +56,11 @@ func rawRun(p impl.Program, half int, grants []int, w impl.World, fuel int, forc
 		states, _ := impl.States(p, n)
 		m.states = append(m.states, states)
 	}
-	m.enter(0, rawSlot{funOf(p.Blocks[0]), 0}, rawSlot{tyUnit, 0})
+	return m.run(fuel, force)
+}
+
+func (m *rawMachine) run(fuel int, force []int) (got impl.Outcome) {
+	m.enter(0, rawSlot{funOf(m.p.Blocks[0]), 0}, rawSlot{tyUnit, 0})
 	defer func() {
 		why := recover()
 		halt, is := why.(rawHalt)
@@ -124,8 +129,10 @@ func (m *rawMachine) touch(at int) *int {
 	if at < m.h.Low || at >= m.h.Next {
 		panic("the test's own access")
 	}
-	m.h.Log = append(m.h.Log, impl.Access{At: at, Low: m.h.Low, High: m.h.Next})
-	m.h.Log = m.h.Log[max(0, len(m.h.Log)-4000):]
+	if !m.endless {
+		m.h.Log = append(m.h.Log, impl.Access{At: at, Low: m.h.Low, High: m.h.Next})
+		m.h.Log = m.h.Log[max(0, len(m.h.Log)-4000):]
+	}
 	return &m.h.Words[at]
 }
 
@@ -140,7 +147,10 @@ func (m *rawMachine) bytes(at int) string {
 // object takes words for an object and stores numbers ahead, then parts; the last part first.
 func (m *rawMachine) object(numbers []int, parts []rawSlot) int {
 	size := len(numbers) + len(parts)
-	full := func() bool { return m.h.Next+size > m.h.Low+m.h.Half }
+	if m.endless {
+		m.h.Words = append(m.h.Words, make([]int, size)...)
+	}
+	full := func() bool { return !m.endless && m.h.Next+size > m.h.Low+m.h.Half }
 	if full() {
 		m.collect()
 	}
@@ -424,10 +434,11 @@ func wantRunAsRaw(t *testing.T, c trial) impl.Outcome {
 		t.Fatalf("%s: half %d, grants %v, fuel %d, force %v:\n%s\nnot %s\n%s", c.what, c.half, c.grants, c.fuel, c.force, sayOutcome(got), sayOutcome(want), sayBlocks(c.p))
 	}
 	wantRunPromised(t, c, got)
-	free := c
-	if free.force = nil; len(c.force) <= 1000 && !sameButHeap(got, free.run()) {
-		t.Fatalf("%s: half %d, fuel %d: forced by %v %s, else %s", c.what, c.half, c.fuel, c.force, sayOutcome(got), sayOutcome(free.run()))
+	calm := c
+	if calm.force = nil; len(c.force) <= 1000 && !sameButHeap(got, calm.run()) {
+		t.Fatalf("%s: half %d, fuel %d: forced by %v %s, else %s", c.what, c.half, c.fuel, c.force, sayOutcome(got), sayOutcome(calm.run()))
 	}
+	wantFreeAsRun(t, c, got)
 	return got
 }
 

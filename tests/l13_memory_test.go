@@ -86,45 +86,50 @@ func (c trial) bothRuns() []impl.Outcome {
 	return list
 }
 
-// TestRunHasMemoryOfItsOwn: nothing is written into an argument nor behind its lists, what lies there is neither read nor
-// handed out, and no two lists of what is answered are one, nor one of the arguments'.
+// wantMemoryOfItsOwn looks at runs of c that must all end alike: nothing is written into an argument nor behind its lists, what
+// lies there is neither read nor handed out, and no two lists of what is answered are one, nor one of the arguments'.
+func wantMemoryOfItsOwn(t *testing.T, c trial, runs func(c trial) []impl.Outcome) {
+	t.Helper()
+	plain := copyOutcome(runs(c)[0])
+	arg := c.roomy()
+	answers := runs(arg)
+	all := newRoll()
+	all.trial(arg)
+	if all.spoilt || !sameProgram(arg.p, c.p) || !sameWorld(arg.w, c.w) || !slices.Equal(arg.grants, c.grants) || !slices.Equal(arg.force, c.force) {
+		t.Errorf("%s: an argument was changed", c.what)
+	}
+	for _, got := range answers {
+		if !sameOutcome(got, plain) {
+			t.Errorf("%s: what lies behind a list was read: %s", c.what, sayOutcome(got))
+		}
+		if !noSpareBehind(got.World) || slices.Contains(got.Heap.Words[:cap(got.Heap.Words)], spareWord) || slices.Contains(got.Heap.Log[:cap(got.Heap.Log)], spareAccess) || slices.Contains(got.Text[:cap(got.Text)], spareByte) {
+			t.Errorf("%s: what lies behind a list was handed out", c.what)
+		}
+		all.outcome(got)
+	}
+	if all.shared {
+		t.Errorf("%s: lists that share memory", c.what)
+	}
+	spoilProgram(arg.p)
+	spoilWorld(arg.w)
+	for _, list := range [][]int{arg.grants, arg.force} {
+		for i := range list {
+			list[i] = spareWord
+		}
+	}
+	for i, got := range answers {
+		if !sameOutcome(got, plain) {
+			t.Errorf("%s: the answer changes with an argument, or with another answer", c.what)
+		}
+		if spoilOutcome(got); i == 0 && !sameOutcome(runs(c)[0], plain) {
+			t.Errorf("%s: an answer was kept", c.what)
+		}
+	}
+}
+
 func TestRunHasMemoryOfItsOwn(t *testing.T) {
 	for _, c := range memoryTrials() {
-		plain := copyOutcome(c.run())
-		arg := c.roomy()
-		answers := append(arg.bothRuns(), arg.run())
-		all := newRoll()
-		all.trial(arg)
-		if all.spoilt || !sameProgram(arg.p, c.p) || !sameWorld(arg.w, c.w) || !slices.Equal(arg.grants, c.grants) || !slices.Equal(arg.force, c.force) {
-			t.Errorf("%s: an argument was changed", c.what)
-		}
-		for _, got := range answers {
-			if !sameOutcome(got, plain) {
-				t.Errorf("%s: what lies behind a list was read: %s", c.what, sayOutcome(got))
-			}
-			if !noSpareBehind(got.World) || slices.Contains(got.Heap.Words[:cap(got.Heap.Words)], spareWord) || slices.Contains(got.Heap.Log[:cap(got.Heap.Log)], spareAccess) || slices.Contains(got.Text[:cap(got.Text)], spareByte) {
-				t.Errorf("%s: what lies behind a list was handed out", c.what)
-			}
-			all.outcome(got)
-		}
-		if all.shared {
-			t.Errorf("%s: lists that share memory", c.what)
-		}
-		spoilProgram(arg.p)
-		spoilWorld(arg.w)
-		for _, list := range [][]int{arg.grants, arg.force} {
-			for i := range list {
-				list[i] = spareWord
-			}
-		}
-		for i, got := range answers {
-			if !sameOutcome(got, plain) {
-				t.Errorf("%s: the answer changes with an argument, or with another answer", c.what)
-			}
-			if spoilOutcome(got); i == 0 && !sameOutcome(c.run(), plain) {
-				t.Errorf("%s: an answer was kept", c.what)
-			}
-		}
+		wantMemoryOfItsOwn(t, c, func(c trial) []impl.Outcome { return append(c.bothRuns(), c.run()) })
 	}
 }
 
@@ -163,17 +168,17 @@ func TestRunOfPartsThatShare(t *testing.T) {
 	}
 }
 
-// TestRunKeepsNothing: a call does the same however many others were made ahead of it.
-func TestRunKeepsNothing(t *testing.T) {
-	list := memoryTrials()
+// wantNothingKept looks whether a call does the same however many others were made ahead of it.
+func wantNothingKept(t *testing.T, seed uint64, list []trial, run func(c trial) impl.Outcome) {
+	t.Helper()
 	var first []impl.Outcome
 	for _, c := range list {
-		first = append(first, copyOutcome(c.run()))
+		first = append(first, copyOutcome(run(c)))
 	}
-	w := &walk{state: 136}
+	w := &walk{state: seed}
 	for range 1500 {
 		i := w.below(len(list))
-		got := list[i].run()
+		got := run(list[i])
 		if !sameOutcome(got, first[i]) {
 			t.Fatalf("%s: %s", list[i].what, sayOutcome(got))
 		}
@@ -183,18 +188,23 @@ func TestRunKeepsNothing(t *testing.T) {
 	}
 }
 
-func TestRunByManyAtOnce(t *testing.T) {
-	list := memoryTrials()
+func TestRunKeepsNothing(t *testing.T) {
+	wantNothingKept(t, 136, memoryTrials(), trial.run)
+}
+
+// wantSameAtOnce looks whether calls do the same where many are made at once.
+func wantSameAtOnce(t *testing.T, list []trial, run func(c trial) impl.Outcome) {
+	t.Helper()
 	var first []impl.Outcome
 	for _, c := range list {
-		first = append(first, c.run())
+		first = append(first, run(c))
 	}
 	var all sync.WaitGroup
 	wrong := make([]int, 8)
 	for worker := range wrong {
 		all.Go(func() {
 			for i, c := range list {
-				if !sameOutcome(c.run(), first[i]) {
+				if !sameOutcome(run(c), first[i]) {
 					wrong[worker]++
 				}
 			}
@@ -204,4 +214,8 @@ func TestRunByManyAtOnce(t *testing.T) {
 	if !filled(wrong, 0) {
 		t.Error("wrong answers:", wrong)
 	}
+}
+
+func TestRunByManyAtOnce(t *testing.T) {
+	wantSameAtOnce(t, memoryTrials(), trial.run)
 }

@@ -287,37 +287,48 @@ func TestForceAndMore(t *testing.T) {
 	}
 }
 
-// TestFuel: it runs out at the step ahead of the end, and not at it; all until then is as with more.
-func TestFuel(t *testing.T) {
+// wantFuelAtTheEnd looks whether fuel runs out at the step ahead of the end, and not at it; all until then is as with more.
+func wantFuelAtTheEnd(t *testing.T, run func(t *testing.T, c trial) impl.Outcome) {
+	t.Helper()
 	for _, c := range endings() {
 		if c.fuel < impl.MaxFuel {
 			continue
 		}
-		full := c.run()
+		full := run(t, c)
 		for _, fuel := range []int{0, 1, 2, full.Steps / 2, full.Steps - 2, full.Steps - 1, full.Steps, full.Steps + 1, impl.MaxFuel - 1} {
 			c.fuel = fuel
-			got := wantRunAsRaw(t, c)
+			got := run(t, c)
 			if fuel >= full.Steps {
 				if !sameOutcome(got, full) {
 					t.Errorf("%s, fuel %d: %s", c.what, fuel, sayOutcome(got))
 				}
 				continue
 			}
-			if got.Kind != impl.OutFuel || got.Steps != fuel || got.N != 0 || len(got.Text) != 0 {
+			if got.Kind != impl.OutFuel || got.Steps != fuel || got.N != 0 || len(got.Text) != 0 || !begins(got.World.Trace, full.World.Trace) {
 				t.Errorf("%s, fuel %d: %s", c.what, fuel, sayOutcome(got))
-			}
-			if n := len(got.World.Trace); n > len(full.World.Trace) || !slices.EqualFunc(got.World.Trace, full.World.Trace[:n], sameEvent) {
-				t.Errorf("%s, fuel %d: %s", c.what, fuel, sayWorld(got.World))
 			}
 		}
 	}
+}
+
+// fuelTrials are the first as long as can be, and one that halts. Two calls a frame, so that there are more steps than fuel, but never too many frames.
+func fuelTrials() (trial, trial) {
+	tree := funBlock(tyInt, tyInt, "arg; if out; self; arg; int 1; sub; call; self; arg; int 1; sub; call; add; return; out: int 1; return")
+	program := func(depth int) impl.Program {
+		return running(bodyOf(tyInt, fmt.Sprint("close 1; int ", depth, "; call; return")), tree)
+	}
+	return plainTrial("as much as there may be", program(20)), plainTrial("nearly as much", program(11))
+}
+
+// stepsOfATree are those of the second one of fuelTrials.
+const stepsOfATree = 4 + 2047*14 + 2048*4
+
+func TestFuel(t *testing.T) {
+	wantFuelAtTheEnd(t, wantRunAsRaw)
 	c := plainTrial("no fuel at all", running(bodyOf(tyUnit, "unit; return")))
 	c.fuel, c.force = 0, []int{0}
 	wantHeap(t, c.what, wantEnd(t, c, impl.OutFuel, 0, "", 0).Heap, "0", "")
-	// Two calls a frame, so that there are more steps than fuel, but never too many frames.
-	tree := funBlock(tyInt, tyInt, "arg; if out; self; arg; int 1; sub; call; self; arg; int 1; sub; call; add; return; out: int 1; return")
-	c = plainTrial("as much as there may be", running(bodyOf(tyInt, "close 1; int 20; call; return"), tree))
-	wantEnd(t, c, impl.OutFuel, 0, "", impl.MaxFuel)
-	c.p.Blocks[0].Code = codeOf("close 1; int 11; call; return")
-	wantEnd(t, c, impl.OutHalt, 0, "2048", 4+2047*14+2048*4)
+	most, less := fuelTrials()
+	wantEnd(t, most, impl.OutFuel, 0, "", impl.MaxFuel)
+	wantEnd(t, less, impl.OutHalt, 0, "2048", stepsOfATree)
 }

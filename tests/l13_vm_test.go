@@ -107,22 +107,17 @@ func drawing5() impl.Program {
 	return running(bodyOf(tyInt, "int 5; foreign 2; return"))
 }
 
-// TestRunRefuses: each reason by itself, at its limit and one beyond.
-func TestRunRefuses(t *testing.T) {
-	good := trial{p: drawing5(), half: 16, grants: []int{impl.CapDraw}, w: worldOfDraws(13), fuel: 3}
-	turns := []struct {
-		what string
-		turn func(c *trial)
-		ok   bool
-	}{
+// A runTurn is one thing turned in a trial that may be run, and whether it may be run still.
+type runTurn struct {
+	what string
+	turn func(c *trial)
+	ok   bool
+}
+
+// beginTurns are the reasons that all machines have for the zero value, each by itself, at its limit and one beyond.
+func beginTurns() []runTurn {
+	turns := []runTurn{
 		{"all as it must be", func(*trial) {}, true},
-		{"half MinHalf - 1", func(c *trial) { c.half = impl.MinHalf - 1 }, false},
-		{"half 0", func(c *trial) { c.half = 0 }, false},
-		{"half -1", func(c *trial) { c.half = -1 }, false},
-		{"half MaxHalf", func(c *trial) { c.half = impl.MaxHalf }, true},
-		{"half MaxHalf + 1", func(c *trial) { c.half = impl.MaxHalf + 1 }, false},
-		{"half at the low end", func(c *trial) { c.half = math.MinInt }, false},
-		{"half at the high end", func(c *trial) { c.half = math.MaxInt }, false},
 		{"one event", func(c *trial) { c.w.Trace = traceOf(1) }, false},
 		{"MaxTrace events", func(c *trial) { c.w.Trace = traceOf(impl.MaxTrace) }, false},
 		{"fuel -1", func(c *trial) { c.fuel = -1 }, false},
@@ -131,10 +126,6 @@ func TestRunRefuses(t *testing.T) {
 		{"fuel MaxFuel + 1", func(c *trial) { c.fuel = impl.MaxFuel + 1 }, false},
 		{"fuel at the low end", func(c *trial) { c.fuel = math.MinInt }, false},
 		{"fuel at the high end", func(c *trial) { c.fuel = math.MaxInt }, false},
-		{"999 force", func(c *trial) { c.force = make([]int, 999) }, true},
-		{"1000 force", func(c *trial) { c.force = make([]int, 1000) }, true},
-		{"1001 force", func(c *trial) { c.force = make([]int, 1001) }, false},
-		{"1001 force that force nothing", func(c *trial) { c.force = slices.Repeat([]int{-1}, 1001) }, false},
 		{"no grants", func(c *trial) { c.grants = nil }, false},
 		{"other grants", func(c *trial) { c.grants = []int{0, 1, 3, 4, -2, 7} }, false},
 		{"all grants and more", func(c *trial) { c.grants = []int{9, 4, 3, 2, 2, 1, 0, -1} }, true},
@@ -145,29 +136,44 @@ func TestRunRefuses(t *testing.T) {
 		{"a block that has some", func(c *trial) { c.p.Blocks = append(c.p.Blocks, bodyOf(tyInt, "int 1; return")) }, true},
 		{"block 0 with Env", func(c *trial) { c.p.Blocks[0].Env = []impl.Ty{tyInt} }, false},
 		{"block 0 with another Arg", func(c *trial) { c.p.Blocks[0].Arg = tyInt }, false},
-		{"two reasons", func(c *trial) { c.half, c.fuel = 15, -1 }, false},
+		{"two reasons", func(c *trial) { c.w.Ticks, c.fuel = -1, -1 }, false},
 	}
 	for _, bad := range badWorlds() {
-		turns = append(turns, struct {
-			what string
-			turn func(c *trial)
-			ok   bool
-		}{"the world: " + bad.name, func(c *trial) { c.w = bad.world }, false})
+		turns = append(turns, runTurn{"the world: " + bad.name, func(c *trial) { c.w = bad.world }, false})
 	}
 	for _, good := range goodWorlds() {
 		if len(good.world.Trace) == 0 {
-			turns = append(turns, struct {
-				what string
-				turn func(c *trial)
-				ok   bool
-			}{"the world: " + good.name, func(c *trial) { c.w = good.world }, true})
+			turns = append(turns, runTurn{"the world: " + good.name, func(c *trial) { c.w = good.world }, true})
 		}
 	}
-	for _, turn := range turns {
-		c := good
-		c.p = copyProgram(good.p)
-		c.what = turn.what
-		turn.turn(&c)
+	return turns
+}
+
+// turned answers a trial of drawing5 that is turned.
+func (turn runTurn) turned() trial {
+	c := trial{what: turn.what, p: drawing5(), half: 16, grants: []int{impl.CapDraw}, w: worldOfDraws(13), fuel: 3}
+	turn.turn(&c)
+	return c
+}
+
+// TestRunRefuses: each reason by itself, at its limit and one beyond.
+func TestRunRefuses(t *testing.T) {
+	turns := []runTurn{
+		{"half MinHalf - 1", func(c *trial) { c.half = impl.MinHalf - 1 }, false},
+		{"half 0", func(c *trial) { c.half = 0 }, false},
+		{"half -1", func(c *trial) { c.half = -1 }, false},
+		{"half MaxHalf", func(c *trial) { c.half = impl.MaxHalf }, true},
+		{"half MaxHalf + 1", func(c *trial) { c.half = impl.MaxHalf + 1 }, false},
+		{"half at the low end", func(c *trial) { c.half = math.MinInt }, false},
+		{"half at the high end", func(c *trial) { c.half = math.MaxInt }, false},
+		{"999 force", func(c *trial) { c.force = make([]int, 999) }, true},
+		{"1000 force", func(c *trial) { c.force = make([]int, 1000) }, true},
+		{"1001 force", func(c *trial) { c.force = make([]int, 1001) }, false},
+		{"1001 force that force nothing", func(c *trial) { c.force = slices.Repeat([]int{-1}, 1001) }, false},
+		{"half and fuel", func(c *trial) { c.half, c.fuel = 15, -1 }, false},
+	}
+	for _, turn := range append(turns, beginTurns()...) {
+		c := turn.turned()
 		got := c.run()
 		if ok := got.Kind != impl.OutRefused; ok != turn.ok || !ok && !sameOutcome(got, impl.Outcome{}) {
 			t.Errorf("%s: %s", c.what, sayOutcome(got))
@@ -382,20 +388,19 @@ func TestFramesThatRaiseAreGone(t *testing.T) {
 	wantEnd(t, plainTrial("raised through all frames, twice", p), impl.OutHalt, 0, "10", 2*(4+7*298+4)+4)
 }
 
-// TestRaise: which try takes it, with which stack, and what is gone.
-func TestRunOfRaise(t *testing.T) {
-	throw := funBlock(tyInt, tyInt, "arg; raise")
-	pass := funBlock(tyInt, tyInt, "close 1; arg; int 1; add; call; return")
-	catch := funBlock(tyInt, tyInt, "try out; close 1; arg; call; done; return; out: int 10; mul; return")
-	again := funBlock(tyInt, tyInt, "try out; close 1; arg; call; done; return; out: int 1; add; raise")
-	for _, c := range []struct {
-		what  string
-		code  string
-		kind  int
-		n     int
-		text  string
-		steps int
-	}{
+// A raising is code that raises, and how it ends.
+type raising struct {
+	what  string
+	code  string
+	kind  int
+	n     int
+	text  string
+	steps int
+}
+
+// raisings tell which try takes what is raised, with which stack, and what is gone.
+func raisings() []raising {
+	return []raising{
 		{"no try", "int 7; raise", impl.OutRaise, 7, "", 2},
 		{"no try, a raise of 0", "int 0; raise", impl.OutRaise, 0, "", 2},
 		{"no try, below 0", "int -7; raise", impl.OutRaise, -7, "", 2},
@@ -415,9 +420,21 @@ func TestRunOfRaise(t *testing.T) {
 		{"taken by two frames", "int 100; try out; close 4; int 7; call; done; out: sub; return", impl.OutHalt, 0, "92", 16},
 		{"taken, without another try", "close 4; int 7; call; return", impl.OutRaise, 8, "", 12},
 		{"a called one gone, then its own", "try out; close 3; int 7; call; done; raise; out: int 1; add; return", impl.OutRaise, 70, "", 15},
-	} {
-		p := running(bodyOf(tyInt, c.code), throw, pass, catch, again)
-		wantEnd(t, plainTrial(c.what, p), c.kind, c.n, c.text, c.steps)
+	}
+}
+
+// trial runs it beside blocks that raise, go through, take it, and raise what they took.
+func (r raising) trial() trial {
+	return plainTrial(r.what, running(bodyOf(tyInt, r.code),
+		funBlock(tyInt, tyInt, "arg; raise"),
+		funBlock(tyInt, tyInt, "close 1; arg; int 1; add; call; return"),
+		funBlock(tyInt, tyInt, "try out; close 1; arg; call; done; return; out: int 10; mul; return"),
+		funBlock(tyInt, tyInt, "try out; close 1; arg; call; done; return; out: int 1; add; raise")))
+}
+
+func TestRunOfRaise(t *testing.T) {
+	for _, r := range raisings() {
+		wantEnd(t, r.trial(), r.kind, r.n, r.text, r.steps)
 	}
 }
 
