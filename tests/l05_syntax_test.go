@@ -1064,6 +1064,12 @@ func TestHowDeep(t *testing.T) {
 // longBody has a text of that many bytes, its line's end with it.
 func longBody(t *testing.T, size int) impl.Expr {
 	t.Helper()
+	return longBodyOf(t, size, exOf(impl.ExPair))
+}
+
+// longBodyOf: 140 texts are the Kids of parts like joined, which has none.
+func longBodyOf(t *testing.T, size int, joined impl.Expr) impl.Expr {
+	t.Helper()
 	var texts [140]int
 	build := func() impl.Expr {
 		at := 0
@@ -1073,7 +1079,9 @@ func longBody(t *testing.T, size int) impl.Expr {
 				at++
 				return exText(strings.Repeat("a", texts[at-1]))
 			}
-			return exOf(impl.ExPair, grow(leaves/2), grow(leaves-leaves/2))
+			both := joined
+			both.Kids = []impl.Expr{grow(leaves / 2), grow(leaves - leaves/2)}
+			return both
 		}
 		return grow(len(texts))
 	}

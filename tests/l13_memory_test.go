@@ -169,7 +169,7 @@ func TestRunOfPartsThatShare(t *testing.T) {
 }
 
 // wantNothingKept looks whether a call does the same however many others were made ahead of it.
-func wantNothingKept(t *testing.T, seed uint64, list []trial, run func(c trial) impl.Outcome) {
+func wantNothingKept[T any](t *testing.T, seed uint64, list []T, run func(c T) impl.Outcome) {
 	t.Helper()
 	var first []impl.Outcome
 	for _, c := range list {
@@ -180,7 +180,7 @@ func wantNothingKept(t *testing.T, seed uint64, list []trial, run func(c trial) 
 		i := w.below(len(list))
 		got := run(list[i])
 		if !sameOutcome(got, first[i]) {
-			t.Fatalf("%s: %s", list[i].what, sayOutcome(got))
+			t.Fatalf("call %d: %s\nnot %s", i, sayOutcome(got), sayOutcome(first[i]))
 		}
 		if w.below(3) == 0 {
 			spoilOutcome(got)
@@ -193,7 +193,7 @@ func TestRunKeepsNothing(t *testing.T) {
 }
 
 // wantSameAtOnce looks whether calls do the same where many are made at once.
-func wantSameAtOnce(t *testing.T, list []trial, run func(c trial) impl.Outcome) {
+func wantSameAtOnce[T any](t *testing.T, list []T, run func(c T) impl.Outcome) {
 	t.Helper()
 	var first []impl.Outcome
 	for _, c := range list {

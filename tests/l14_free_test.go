@@ -123,14 +123,17 @@ func TestFreeInstructions(t *testing.T) {
 	}
 }
 
-// TestFreeSums: at both ends of 63 bits.
-func TestFreeSums(t *testing.T) {
-	for _, c := range []struct {
-		op   string
-		a    int
-		b    int
-		text string
-	}{
+// A sum is what an op makes of two numbers.
+type sum struct {
+	op   string
+	a    int
+	b    int
+	text string
+}
+
+// sumsAtBothEnds: of 63 bits.
+func sumsAtBothEnds() []sum {
+	return []sum{
 		{"add", greatestWrapped, 0, "4611686018427387903"}, {"add", greatestWrapped, 1, "-4611686018427387904"}, {"add", greatestWrapped, greatestWrapped, "-2"},
 		{"add", leastWrapped, -1, "4611686018427387903"}, {"add", leastWrapped, leastWrapped, "0"}, {"add", leastWrapped, greatestWrapped, "-1"},
 		{"sub", leastWrapped, 0, "-4611686018427387904"}, {"sub", leastWrapped, 1, "4611686018427387903"}, {"sub", greatestWrapped, -1, "-4611686018427387904"},
@@ -139,7 +142,11 @@ func TestFreeSums(t *testing.T) {
 		{"mul", leastWrapped, -1, "-4611686018427387904"}, {"mul", greatestWrapped, greatestWrapped, "1"}, {"mul", leastWrapped, greatestWrapped, "-4611686018427387904"},
 		{"less", leastWrapped, greatestWrapped, "1"}, {"less", greatestWrapped, leastWrapped, "0"}, {"less", leastWrapped, leastWrapped + 1, "1"}, {"less", greatestWrapped, greatestWrapped, "0"},
 		{"same", leastWrapped, greatestWrapped, "0"}, {"same", leastWrapped, leastWrapped, "1"}, {"same", greatestWrapped, greatestWrapped - 1, "0"},
-	} {
+	}
+}
+
+func TestFreeSums(t *testing.T) {
+	for _, c := range sumsAtBothEnds() {
 		trial := plainTrial(fmt.Sprint(c.op, " of ", c.a, " and ", c.b), running(bodyOf(tyInt, "int 0; foreign 3; int 1; foreign 3; "+c.op+"; return")))
 		trial.w.Store = []impl.Entry{{Key: 0, Value: c.a}, {Key: 1, Value: c.b}}
 		wantFreeEnd(t, trial, impl.OutHalt, 0, c.text, 6)

@@ -8,20 +8,18 @@ import (
 	"loop.example/g00293/impl"
 )
 
-// wantMoreFuel looks whether with more and more fuel the trace goes on, and what had ended ends alike; of run, which is Run or RunFree.
-func wantMoreFuel(t *testing.T, c trial, fuels []int, run func(trial) impl.Outcome) {
+// wantMoreFuel looks whether with more and more fuel the trace goes on, and what had ended ends alike.
+func wantMoreFuel(t *testing.T, what string, fuels []int, run func(fuel int) impl.Outcome) {
 	t.Helper()
-	c.fuel = 0
-	less := run(c)
+	less := run(0)
 	for _, fuel := range slices.Sorted(slices.Values(fuels)) {
-		c.fuel = fuel
-		more := run(c)
+		more := run(fuel)
 		ok := sameOutcome(more, less)
 		if less.Kind == impl.OutFuel {
 			ok = begins(less.World.Trace, more.World.Trace) && more.Steps >= less.Steps && (more.Kind != impl.OutFuel || more.Steps == fuel)
 		}
 		if !ok {
-			t.Fatalf("%s: half %d: with less fuel %s\nwith %d %s", c.what, c.half, sayOutcome(less), fuel, sayOutcome(more))
+			t.Fatalf("%s: with less fuel %s\nwith %d %s", what, sayOutcome(less), fuel, sayOutcome(more))
 		}
 		less = more
 	}
@@ -46,6 +44,11 @@ func (w *walk) wantGreaterHeaps(t *testing.T, c trial, count map[int]int) {
 	wantFreeAsRun(t, c, c.run())
 }
 
+func (c trial) fueled(fuel int) trial {
+	c.fuel = fuel
+	return c
+}
+
 // wantManyWays holds a program's runs against each other: without a heap, in heaps of every size, with force, with more and more fuel.
 func (w *walk) wantManyWays(t *testing.T, what string, p impl.Program, count map[int]int) {
 	t.Helper()
@@ -57,9 +60,9 @@ func (w *walk) wantManyWays(t *testing.T, what string, p impl.Program, count map
 		fuels = append(fuels, w.below(steps+1))
 	}
 	fuels = slices.DeleteFunc(fuels, func(fuel int) bool { return fuel < 0 })
-	wantMoreFuel(t, c, fuels, trial.free)
+	wantMoreFuel(t, what, fuels, func(fuel int) impl.Outcome { return c.fueled(fuel).free() })
 	c.half = impl.MinHalf + w.below(100)
-	wantMoreFuel(t, c, fuels, trial.run)
+	wantMoreFuel(t, fmt.Sprint(what, ": half ", c.half), fuels, func(fuel int) impl.Outcome { return c.fueled(fuel).run() })
 }
 
 func TestManyProgramsWithoutAHeap(t *testing.T) {
